@@ -1,0 +1,1 @@
+"""Sequent proofs of a logic that counts, line by line."""
