@@ -1,11 +1,16 @@
 """The calls on one proof, laid out in one list of whole numbers, and their answers."""
 
-from countproofs.formulas import forms_of
-from countproofs.lines import KINDS, NO_FAULT
+from countproofs.formulas import plain_atom
+from countproofs.lines import KINDS, NO_FAULT, written_lines
 from countproofs.proofs import Proof
-from countproofs.texts import numbers_of, text_of
+from countproofs.reading import read_bounded
+from countproofs.sequents import balance_of, read_sequent, sequent_form
+from countproofs.texts import is_name, numbers_of, text_of
 
+NOT_READ = -1
 NO_SUCH_LINE = -2
+NOT_IN_BOUNDS = -6
+TOO_MANY_LINES = -7
 NOTHING_TO_DROP = -8
 
 
@@ -40,21 +45,16 @@ def call_drop(proof, given):
 
 def call_text(proof, given):
     """The proof's text."""
-    return counted(numbers_of(proof.written()))
+    return counted(numbers_of(written_lines(proof.lines)))
 
 
 def call_sequent(proof, given):
     """The form of a line's sequent."""
-    if not proof.has_line(given[0]):
-        return [NO_SUCH_LINE]
-    form = ", ".join(forms_of(proof.lines[given[0]].sequent))
-    return counted(numbers_of(form))
+    return counted(numbers_of(sequent_form(proof.lines[given[0]].sequent)))
 
 
 def call_rule(proof, given):
     """The number of a line's kind and its premises."""
-    if not proof.has_line(given[0]):
-        return [NO_SUCH_LINE]
     line = proof.lines[given[0]]
     return [KINDS.index(line.kind)] + counted(line.premises)
 
@@ -66,9 +66,69 @@ def call_unused(proof, given):
 
 def call_under(proof, given):
     """The lines under a line."""
-    if not proof.has_line(given[0]):
-        return [NO_SUCH_LINE]
     return counted(proof.under(given[0]))
+
+
+def call_facts(proof, given):
+    """A line's height, and how many lines under it each kind has."""
+    return [proof.height(given[0])] + proof.kind_counts(given[0])
+
+
+def call_find(proof, given):
+    """The lines that have a sequent."""
+    sequent = read_sequent(text_of(given[0]))
+    if sequent is None:
+        return [NOT_READ]
+    return counted(proof.lines_with(sequent))
+
+
+def call_part(proof, given):
+    """The text of the proof of one line."""
+    return counted(numbers_of(written_lines(proof.part(given[0]))))
+
+
+def call_keep(proof, given):
+    """Keep the proof of one line alone."""
+    proof.keep(given[0])
+    return [len(proof.lines)]
+
+
+def call_rename(proof, given):
+    """Give the atoms of one name another name."""
+    old = text_of(given[0])
+    new = text_of(given[1])
+    if not is_name(old) or not is_name(new):
+        return [NOT_READ]
+    # An atom in an atom's place leaves every formula as large as it was: this is never out of bounds.
+    proof.fill(old, plain_atom(new))
+    return [len(proof.lines)]
+
+
+def call_fill(proof, given):
+    """Replace the atoms of a name by a formula."""
+    name = text_of(given[0])
+    formula = read_bounded(text_of(given[1]))
+    if not is_name(name) or formula is None:
+        return [NOT_READ]
+    if not proof.fill(name, formula):
+        return [NOT_IN_BOUNDS]
+    return [len(proof.lines)]
+
+
+def call_spread(proof, given):
+    """Spread the axioms out."""
+    if not proof.spread():
+        return [TOO_MANY_LINES]
+    return [len(proof.lines)]
+
+
+def call_balance(proof, given):
+    """The names in a line's sequent, with how often each stands plain and turned."""
+    balance = balance_of(proof.lines[given[0]].sequent)
+    answer = [len(balance)]
+    for name in sorted(balance):
+        answer.extend(counted(numbers_of(name)) + balance[name])
+    return answer
 
 
 # For each call by its number: what answers it, how many whole numbers and how many rows it is given.
@@ -81,6 +141,14 @@ CALLS = (
     (call_rule, 1, 0),
     (call_unused, 0, 0),
     (call_under, 1, 0),
+    (call_facts, 1, 0),
+    (call_find, 0, 1),
+    (call_part, 1, 0),
+    (call_keep, 1, 0),
+    (call_rename, 0, 2),
+    (call_fill, 0, 2),
+    (call_spread, 0, 0),
+    (call_balance, 1, 0),
 )
 
 
@@ -112,6 +180,9 @@ def answer_of(proof, tape):
     call = CALLS[tape.take_number()]
     whole_numbers = [tape.take_number() for turn in range(call[1])]
     rows = [tape.take_row() for turn in range(call[2])]
+    # The one whole number that a call may be given is a line's.
+    if not all([proof.has_line(number) for number in whole_numbers]):
+        return [NO_SUCH_LINE]
     answering = call[0]
     return answering(proof, whole_numbers + rows)
 

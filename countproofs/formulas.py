@@ -1,6 +1,11 @@
-"""Formulas, their duals, forms and bounds."""
+"""Formulas, their duals, forms and bounds.
 
-PLAIN = ""
+A formula is a tuple of words: its sign, then the words of the one or two formulas that it
+is of. An atom is the one word of its form. So a formula is gone through by a loop, from its
+end if a word is to meet the formulas that it is of, and two formulas are the same if their
+words are.
+"""
+
 TURNED = "~"
 TENSOR = "*"
 PAR = "|"
@@ -18,62 +23,108 @@ MOST_NODES = 200
 MOST_DEPTH = 40
 
 
-class Formula:
-    """A formula that is not changed once it is made.
-
-    Its form, its sizes and its dual are made with it, from those of its parts, so that
-    no later question has to go down into a nest. Two formulas are the same if their
-    forms are.
-    """
-
-    def __init__(self, sign, parts, form):
-        self.sign = sign
-        self.parts = parts
-        self.form = form
-        self.atoms = sum([part.atoms for part in parts]) if parts else 1
-        self.nodes = 1 + sum([part.nodes for part in parts])
-        self.depth = 1 + max([part.depth for part in parts], default=0)
-        self.dual = None
-
-
-def paired(formula, dual):
-    """The first of two formulas, after each has been made the other's dual."""
-    formula.dual = dual
-    dual.dual = formula
-    return formula
-
-
 def plain_atom(name):
     """The plain atom of a name."""
-    return paired(Formula(PLAIN, (), name), Formula(TURNED, (), TURNED + name))
+    return (name,)
 
 
-def compound(sign, parts):
-    """The formula with this sign of one or two formulas."""
-    duals = [part.dual for part in parts]
-    return paired(half(sign, parts), half(DUAL_SIGNS[sign], duals))
+def of_one(sign, formula):
+    """The formula with this sign of one formula."""
+    return (sign,) + formula
 
 
-def half(sign, parts):
-    """A formula of others that has no dual yet."""
-    if sign in SIGNS_OF_ONE:
-        return Formula(sign, tuple(parts), sign + bracketed(parts[0], PLAIN))
-    form = bracketed(parts[0], PLAIN) + sign + bracketed(parts[1], sign)
-    return Formula(sign, tuple(parts), form)
+def of_two(sign, first, second):
+    """The formula with this sign of two formulas."""
+    return (sign,) + first + second
 
 
-def bracketed(formula, free_sign):
-    """The form, in ( ) if the formula is one of two whose sign is not the free one."""
-    if formula.sign in SIGNS_OF_TWO and formula.sign != free_sign:
-        return "(" + formula.form + ")"
-    return formula.form
+def parts_of(formula):
+    """The one or two formulas that a formula with a sign is of."""
+    if formula[0] in SIGNS_OF_ONE:
+        return [formula[1:]]
+    end = end_of_formula(formula, 1)
+    return [formula[1:end], formula[end:]]
+
+
+def end_of_formula(words, start):
+    """The place behind the formula that begins at a place."""
+    wanted = 1
+    place = start
+    while wanted > 0:
+        if words[place] in SIGNS_OF_TWO:
+            wanted += 1
+        elif words[place] not in SIGNS_OF_ONE:
+            wanted -= 1
+        place += 1
+    return place
+
+
+def dual_of(formula):
+    """The dual of a formula."""
+    return tuple([dual_word(word) for word in formula])
+
+
+def dual_word(word):
+    """The sign or the atom that stands in the dual in the place of this one."""
+    if word in DUAL_SIGNS:
+        return DUAL_SIGNS[word]
+    return name_of(word) if is_turned(word) else TURNED + word
+
+
+def is_turned(atom):
+    """Whether an atom is turned."""
+    return atom[0] == TURNED
+
+
+def name_of(atom):
+    """The name of an atom."""
+    return atom[1:] if is_turned(atom) else atom
+
+
+def atoms_of(formula):
+    """The atoms that stand in a formula, each as often as it stands there."""
+    return [word for word in formula if word not in DUAL_SIGNS]
+
+
+def form_of(formula):
+    """The form of a formula."""
+    # Each formula that is met is kept with its first word, which tells whether it needs brackets.
+    met = []
+    for word in reversed(formula):
+        if word in SIGNS_OF_TWO:
+            first = met.pop()
+            form = bracketed(first, "") + word + bracketed(met.pop(), word)
+        elif word in SIGNS_OF_ONE:
+            form = word + bracketed(met.pop(), "")
+        else:
+            form = word
+        met.append((word, form))
+    return met[0][1]
+
+
+def bracketed(pair, free_sign):
+    """The form of a pair of first word and form, in ( ) if the word is a sign of two other than the free one."""
+    if pair[0] in SIGNS_OF_TWO and pair[0] != free_sign:
+        return "(" + pair[1] + ")"
+    return pair[1]
+
+
+def depth_of(formula):
+    """The depth of a formula."""
+    met = []
+    for word in reversed(formula):
+        if word in SIGNS_OF_TWO:
+            first = met.pop()
+            met.append(1 + max(first, met.pop()))
+        elif word in SIGNS_OF_ONE:
+            met.append(1 + met.pop())
+        else:
+            met.append(1)
+    return met[0]
 
 
 def is_in_bounds(formula):
     """Whether a formula is in bounds."""
-    return formula.atoms <= MOST_ATOMS and formula.nodes <= MOST_NODES and formula.depth <= MOST_DEPTH
-
-
-def forms_of(sequent):
-    """The forms of a sequent's formulas, in order."""
-    return [formula.form for formula in sequent]
+    if len(formula) > MOST_NODES or len(atoms_of(formula)) > MOST_ATOMS:
+        return False
+    return depth_of(formula) <= MOST_DEPTH

@@ -1,8 +1,9 @@
 """The lines of a proof: how they are written and read, and their faults."""
 
-from countproofs.formulas import is_in_bounds
+from countproofs.formulas import form_of
 from countproofs.reading import read_bounded
 from countproofs.rules import made_sequent, rule_fits
+from countproofs.sequents import is_sequent
 from countproofs.texts import decimal_value, is_decimal
 
 KINDS = ("ax", "cut", "tensor", "par", "with", "plus1", "plus2", "der", "weak", "con", "prom", "ex")
@@ -23,7 +24,6 @@ FIELDS = {
     "ex": "ipq",
 }
 
-MOST_FORMULAS = 20
 MOST_LINES = 200
 
 NO_FAULT = 0
@@ -37,14 +37,18 @@ NO_ROOM_IN_PROOF = 7
 
 
 class Line:
-    """A line: its rule's kind, premises, places and formula, and the sequent that it makes."""
+    """A line: its rule's kind, premises, places and formula, and the sequent that it makes.
 
-    def __init__(self, kind):
+    A line that stands in a proof is not changed any more, so lines may share what is the
+    same in them.
+    """
+
+    def __init__(self, kind, premises, places, formula, sequent):
         self.kind = kind
-        self.premises = []
-        self.places = []
-        self.formula = None
-        self.sequent = []
+        self.premises = premises
+        self.places = places
+        self.formula = formula
+        self.sequent = sequent
 
     def take_field(self, letter, text):
         """Whether a text is a field of this letter; if so, the line has it."""
@@ -60,7 +64,7 @@ class Line:
     def field(self, letter):
         """How the field of this letter is written."""
         if letter == "A":
-            return self.formula.form
+            return form_of(self.formula)
         if letter in "ij":
             return str(self.premises["ij".index(letter)])
         return str(self.places["pq".index(letter)])
@@ -80,7 +84,7 @@ def read_line(text):
     texts = text.split(" ", len(letters))[1:]
     if len(texts) != len(letters):
         return None
-    line = Line(kind)
+    line = Line(kind, [], [], None, [])
     for letter, field_text in zip(letters, texts):
         if not line.take_field(letter, field_text):
             return None
@@ -148,6 +152,12 @@ def places_stand(line, sequents):
     return not (in_one_premise and line.places[0] == line.places[1])
 
 
-def is_sequent(formulas):
-    """Whether a list of formulas is short enough and all of them are in bounds."""
-    return len(formulas) <= MOST_FORMULAS and all([is_in_bounds(formula) for formula in formulas])
+def renumbered(line, numbers):
+    """A line whose premises have new numbers; numbers tells them for the old ones."""
+    premises = [numbers[premise] for premise in line.premises]
+    return Line(line.kind, premises, line.places, line.formula, line.sequent)
+
+
+def written_lines(lines):
+    """The text of some lines, each with its end."""
+    return "".join([line.written() + "\n" for line in lines])

@@ -1,6 +1,8 @@
-"""Proofs: lists of lines that grow, shrink and tell what stands in them."""
+"""Proofs: lists of lines that grow, shrink, change as a whole and tell what stands in them."""
 
-from countproofs.lines import NO_FAULT, add_line, used_lines
+from countproofs.filling import filled_lines
+from countproofs.lines import KINDS, NO_FAULT, add_line, renumbered, used_lines
+from countproofs.spreading import spread_lines
 
 
 class Proof:
@@ -31,10 +33,6 @@ class Proof:
         """Lose the last line."""
         self.lines.pop()
 
-    def written(self):
-        """The proof's text."""
-        return "".join([line.written() + "\n" for line in self.lines])
-
     def unused(self):
         """The numbers of the lines that are no premises, rising."""
         used = used_lines(self.lines)
@@ -49,6 +47,49 @@ class Proof:
                 for premise in self.lines[above].premises:
                     found[premise] = True
         return sorted(found)
+
+    def height(self, number):
+        """The height of a line."""
+        heights = []
+        for line in self.lines[:number + 1]:
+            heights.append(1 + max([heights[premise] for premise in line.premises], default=0))
+        return heights[number]
+
+    def kind_counts(self, number):
+        """For each kind of rule, how many of the lines under a line are of it."""
+        kinds = [self.lines[below].kind for below in self.under(number)]
+        return [kinds.count(kind) for kind in KINDS]
+
+    def lines_with(self, sequent):
+        """The numbers of the lines that have just this sequent, rising."""
+        return [number for number, line in enumerate(self.lines) if line.sequent == sequent]
+
+    def part(self, number):
+        """The lines under a line as lines of a proof of their own."""
+        kept = self.under(number)
+        numbers = {}
+        for place, old in enumerate(kept):
+            numbers[old] = place
+        return [renumbered(self.lines[old], numbers) for old in kept]
+
+    def keep(self, number):
+        """Have only the lines under a line."""
+        self.lines = self.part(number)
+
+    def fill(self, name, formula):
+        """Whether the atoms of a name may be replaced by a formula within bounds; if so, they are."""
+        return self.change(filled_lines(self.lines, name, formula))
+
+    def spread(self):
+        """Whether the axioms may be spread out within the number of lines; if so, they are."""
+        return self.change(spread_lines(self.lines))
+
+    def change(self, lines):
+        """Whether there are other lines, not None; if so, have them."""
+        if lines is None:
+            return False
+        self.lines = lines
+        return True
 
 
 def line_texts(text):

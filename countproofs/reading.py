@@ -1,7 +1,7 @@
 """How a text is read as a formula."""
 
 from countproofs.formulas import PAR, SIGNS_OF_ONE, SIGNS_OF_TWO, TURNED
-from countproofs.formulas import compound, is_in_bounds, plain_atom
+from countproofs.formulas import dual_of, is_in_bounds, of_one, of_two, plain_atom
 from countproofs.texts import DIGITS, SMALL_LETTERS, is_name
 
 ARROW = "-o"
@@ -126,20 +126,20 @@ class Reader:
         """Put the prefixes before the part that has ended."""
         while self.last_waiting() == TURNED or self.last_waiting() in SIGNS_OF_ONE:
             token = self.waiting.pop()[0]
-            self.formula = self.formula.dual if token == TURNED else compound(token, [self.formula])
+            self.formula = dual_of(self.formula) if token == TURNED else of_one(token, self.formula)
 
     def end_chain(self):
         """Put the chain that has ended together from its last part on."""
         while self.last_waiting() in SIGNS_OF_TWO:
             pair = self.waiting.pop()
-            self.formula = compound(pair[0], [pair[1], self.formula])
+            self.formula = of_two(pair[0], pair[1], self.formula)
 
     def end_formula(self):
         """Put the formula that has ended together from its last chain on."""
         self.end_chain()
         while self.last_waiting() == ARROW:
             before = self.waiting.pop()[1]
-            self.formula = compound(PAR, [before.dual, self.formula])
+            self.formula = of_two(PAR, dual_of(before), self.formula)
 
     def end_bracket(self):
         """Whether a ) may stand here; if so, its ( ends."""

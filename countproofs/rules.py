@@ -4,7 +4,7 @@ A rule is asked with its line, as read, and the list of its premises' sequents.
 """
 
 from countproofs.formulas import OF_COURSE, PAR, PLUS, TENSOR, WHY_NOT, WITH
-from countproofs.formulas import compound, forms_of
+from countproofs.formulas import dual_of, of_one, of_two
 
 
 def without(sequent, places):
@@ -37,14 +37,14 @@ def chosen_beside(line, sequents):
     return sequents[-1][line.places[1]]
 
 
-def both_chosen(line, sequents):
-    """The formulas at the line's two places."""
-    return [chosen(line, sequents), chosen_beside(line, sequents)]
+def joined(sign, line, sequents):
+    """The formula with this sign of those at the line's two places."""
+    return of_two(sign, chosen(line, sequents), chosen_beside(line, sequents))
 
 
 def make_axiom(line, sequents):
     """A, the dual of A."""
-    return [line.formula, line.formula.dual]
+    return [line.formula, dual_of(line.formula)]
 
 
 def make_cut(line, sequents):
@@ -54,37 +54,37 @@ def make_cut(line, sequents):
 
 def make_tensor(line, sequents):
     """S without p, T without q, A tensor B."""
-    return make_cut(line, sequents) + [compound(TENSOR, both_chosen(line, sequents))]
+    return make_cut(line, sequents) + [joined(TENSOR, line, sequents)]
 
 
 def make_par(line, sequents):
     """S without both, A par B."""
-    return rest_of_both_places(line, sequents) + [compound(PAR, both_chosen(line, sequents))]
+    return rest_of_both_places(line, sequents) + [joined(PAR, line, sequents)]
 
 
 def make_with(line, sequents):
     """The list that both premises share, A with B."""
-    return rest_of_first(line, sequents) + [compound(WITH, both_chosen(line, sequents))]
+    return rest_of_first(line, sequents) + [joined(WITH, line, sequents)]
 
 
 def make_plus_first(line, sequents):
     """S without p, A plus B."""
-    return rest_of_first(line, sequents) + [compound(PLUS, [chosen(line, sequents), line.formula])]
+    return rest_of_first(line, sequents) + [of_two(PLUS, chosen(line, sequents), line.formula)]
 
 
 def make_plus_second(line, sequents):
     """S without p, B plus A."""
-    return rest_of_first(line, sequents) + [compound(PLUS, [line.formula, chosen(line, sequents)])]
+    return rest_of_first(line, sequents) + [of_two(PLUS, line.formula, chosen(line, sequents))]
 
 
 def make_derelict(line, sequents):
     """S without p, why not A."""
-    return rest_of_first(line, sequents) + [compound(WHY_NOT, [chosen(line, sequents)])]
+    return rest_of_first(line, sequents) + [of_one(WHY_NOT, chosen(line, sequents))]
 
 
 def make_weaken(line, sequents):
     """S, why not A."""
-    return sequents[0] + [compound(WHY_NOT, [line.formula])]
+    return sequents[0] + [of_one(WHY_NOT, line.formula)]
 
 
 def make_contract(line, sequents):
@@ -94,7 +94,7 @@ def make_contract(line, sequents):
 
 def make_promote(line, sequents):
     """S without p, of course A."""
-    return rest_of_first(line, sequents) + [compound(OF_COURSE, [chosen(line, sequents)])]
+    return rest_of_first(line, sequents) + [of_one(OF_COURSE, chosen(line, sequents))]
 
 
 def make_exchange(line, sequents):
@@ -107,23 +107,23 @@ def make_exchange(line, sequents):
 
 def cut_fits(line, sequents):
     """Whether the two chosen formulas are duals."""
-    return chosen(line, sequents).dual.form == chosen_beside(line, sequents).form
+    return dual_of(chosen(line, sequents)) == chosen_beside(line, sequents)
 
 
 def with_fits(line, sequents):
     """Whether both premises have the same other formulas."""
-    return forms_of(rest_of_first(line, sequents)) == forms_of(rest_of_second(line, sequents))
+    return rest_of_first(line, sequents) == rest_of_second(line, sequents)
 
 
 def contract_fits(line, sequents):
     """Whether the two chosen formulas are the same why not."""
     first = chosen(line, sequents)
-    return first.sign == WHY_NOT and first.form == chosen_beside(line, sequents).form
+    return first[0] == WHY_NOT and first == chosen_beside(line, sequents)
 
 
 def promote_fits(line, sequents):
     """Whether every other formula is a why not."""
-    return all([formula.sign == WHY_NOT for formula in rest_of_first(line, sequents)])
+    return all([formula[0] == WHY_NOT for formula in rest_of_first(line, sequents)])
 
 
 MAKERS = {

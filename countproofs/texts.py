@@ -2,7 +2,7 @@
 
 SMALL_LETTERS = "abcdefghijklmnopqrstuvwxyz"
 DIGITS = "0123456789"
-OTHER_SIGNS = "~*|&+!?()- \n"
+OTHER_SIGNS = "~*|&+!?()-, \n"
 UNREAD_SIGN = "#"
 LONGEST_NAME = 12
 LONGEST_DECIMAL = 9
@@ -12,7 +12,7 @@ PAST_ALL = 1000000000
 def text_of(numbers):
     """The text of these bytes, with one sign for each byte.
 
-    Bytes that stand in no line and in no formula all become one sign that is never read,
+    Bytes that stand in no line, formula or sequent all become one sign that is never read,
     so that the text keeps its length.
     """
     signs = {}

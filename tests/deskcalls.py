@@ -23,6 +23,14 @@ def line(text):
 DROP = [2]
 TEXT = [3]
 OPEN = [6]
+SPREAD = [14]
+
+FAR = 10 ** 18
+EXAMPLE = ("ax a", "ax b", "tensor 0 0 1 0", "par 2 0 1")
+EVERY_KIND = (
+    "ax a", "ax ~a", "cut 0 0 1 0", "ax b", "tensor 2 0 3 1", "par 4 0 1", "ax c", "ax c", "with 6 1 7 1", "plus1 8 0 d&e",
+    "plus2 9 1 d|e", "der 10 0", "weak 11 f*g", "weak 12 f*g", "con 13 2 3", "ax !h", "prom 15 0", "ex 14 0 2",
+)
 
 
 def sequent(number):
@@ -35,6 +43,64 @@ def rule(number):
 
 def under(number):
     return [7, number]
+
+
+def facts(number):
+    return [8, number]
+
+
+def find(text):
+    return [9] + row(text)
+
+
+def part(number):
+    return [10, number]
+
+
+def keep(number):
+    return [11, number]
+
+
+def rename(old, new):
+    return [12] + row(old) + row(new)
+
+
+def fill(name, formula):
+    return [13] + row(name) + row(formula)
+
+
+def balance(number):
+    return [15, number]
+
+
+def every_question(count):
+    """The calls that ask all there is to ask of a proof with this many lines."""
+    asked = [TEXT, OPEN]
+    for number in range(count):
+        asked += [call(number) for call in (sequent, rule, under, facts, part, balance)]
+    return asked
+
+
+def all_told(count, *calls):
+    """What a proof with this many lines tells behind some calls."""
+    return run(*calls, *every_question(count))[len(calls):]
+
+
+def balanced(atoms, atom="a"):
+    """A formula of this many atoms that is as flat as can be."""
+    if atoms == 1:
+        return atom
+    return "(" + balanced(atoms // 2, atom) + "*" + balanced(atoms - atoms // 2, atom) + ")"
+
+
+def weakened(count):
+    """The lines of a proof whose last sequent has this many formulas."""
+    return ["ax a"] + [f"weak {number} b" for number in range(count - 2)]
+
+
+def written(texts):
+    """The text of a proof of these lines."""
+    return "".join(text + "\n" for text in texts)
 
 
 def cut_up(given_back):
@@ -57,7 +123,7 @@ def run(*calls):
 
 def lines(*texts):
     """The call that reads a proof of these lines."""
-    return proof("".join(text + "\n" for text in texts))
+    return proof(written(texts))
 
 
 def counted_text(text):

@@ -118,6 +118,46 @@ def read(text):
     return tree if place == len(tokens) - 1 and in_bounds(tree) else None
 
 
+def replaced(tree, name, formula):
+    """The tree with a formula in the place of a name's plain atoms, and its dual in that of the turned ones."""
+    if tree[0] != "atom":
+        return (tree[0],) + tuple(replaced(part, name, formula) for part in tree[1:])
+    if tree[1] != name:
+        return tree
+    return dual(formula) if tree[2] else formula
+
+
+def is_name(text):
+    return re.fullmatch("[a-z][a-z0-9]{0,11}", text) is not None
+
+
+def spread_out(tree, texts):
+    """Put the lines of an axiom's tree behind some texts; the last one's number."""
+    def put(*words):
+        texts.append(" ".join(str(word) for word in words))
+        return len(texts) - 1
+
+    if tree[0] == "atom":
+        return put("ax", form(tree))
+    x = spread_out(tree[1], texts)
+    if tree[0] == "!":
+        return put("ex", put("prom", put("der", x, 1), 0), 0, 1)
+    if tree[0] == "?":
+        return put("prom", put("der", x, 0), 0)
+    if tree[0] == "&":
+        x = put("plus1", x, 1, form(dual(tree[2])))
+        y = put("plus2", spread_out(tree[2], texts), 1, form(dual(tree[1])))
+        return put("ex", put("with", x, 0, y, 0), 0, 1)
+    if tree[0] == "+":
+        x = put("plus1", x, 0, form(tree[2]))
+        y = put("plus2", spread_out(tree[2], texts), 0, form(tree[1]))
+        return put("with", x, 0, y, 0)
+    y = spread_out(tree[2], texts)
+    if tree[0] == "*":
+        return put("par", put("tensor", x, 0, y, 0), 0, 1)
+    return put("ex", put("par", put("tensor", x, 1, y, 1), 0, 1), 0, 1)
+
+
 class SecondProof:
     """A list of (kind, premises, places, tree, sequent)."""
 
@@ -222,3 +262,76 @@ class SecondProof:
     def open_lines(self):
         used = [premise for line in self.lines for premise in line[1]]
         return [number for number in range(len(self.lines)) if number not in used]
+
+    def facts(self, number):
+        below = [self.lines[one][0] for one in self.under(number)]
+        return [self.height(number)] + [below.count(kind) for kind in KINDS]
+
+    def height(self, number):
+        return 1 + max([self.height(premise) for premise in self.lines[number][1]], default=0)
+
+    def find(self, text):
+        """The lines with the sequent of a text, or None."""
+        trees = [read(piece) for piece in text.split(",")] if text.strip(" ") else []
+        if None in trees or len(trees) > 20:
+            return None
+        return [number for number, line in enumerate(self.lines) if line[4] == trees]
+
+    def part(self, number):
+        """A proof of the lines under a line, made anew from their texts."""
+        below = self.under(number)
+        texts = []
+        for old in below:
+            kind, premises, places, tree, sequent = self.lines[old]
+            texts.append(self.written((kind, [below.index(premise) for premise in premises], places, tree, sequent)))
+        return self.made(texts)
+
+    def made(self, texts):
+        other = SecondProof()
+        for text in texts:
+            assert other.add(text) == 0, text
+        return other
+
+    def fill(self, name, formula):
+        """Whether all stays in bounds; if so, the atoms are replaced."""
+        lines = []
+        for kind, premises, places, tree, sequent in self.lines:
+            grown = [replaced(one, name, formula) for one in sequent]
+            tree = replaced(tree, name, formula) if tree else tree
+            if not all(in_bounds(one) for one in grown + ([tree] if tree else [])):
+                return False
+            lines.append((kind, premises, places, tree, grown))
+        self.lines = lines
+        return True
+
+    def spread(self):
+        """Whether there are few enough lines; if so, the axioms are spread out."""
+        texts, numbers = [], []
+        for kind, premises, places, tree, sequent in self.lines:
+            if kind == "ax":
+                numbers.append(spread_out(tree, texts))
+            else:
+                texts.append(self.written((kind, [numbers[premise] for premise in premises], places, tree, sequent)))
+                numbers.append(len(texts) - 1)
+        if len(texts) > 200:
+            return False
+        self.lines = self.made(texts).lines
+        return True
+
+    def balance(self, number):
+        nodes = [node for tree in self.lines[number][4] for node in all_nodes(tree) if node[0] == "atom"]
+        found = []
+        for name in sorted({node[1].encode() for node in nodes}):
+            sides = [node[2] for node in nodes if node[1].encode() == name]
+            found += [len(name)] + list(name) + [sides.count(False), sides.count(True)]
+        return [len({node[1] for node in nodes})] + found
+
+
+def read_proof(text):
+    """The first faulty line's number plus 1, the reason and None; or two zeros and the proof."""
+    found = SecondProof()
+    for number, line in enumerate(re.findall(r"[^\n]*\n|[^\n]+", text)):
+        reason = found.add(line.removesuffix("\n"))
+        if reason:
+            return number + 1, reason, None
+    return 0, 0, found

@@ -2,14 +2,8 @@
 
 import unittest
 
-from deskcalls import DROP, OPEN, TEXT, counted_text, line, lines, proof, rule, run, sequent, under
-
-EXAMPLE = ("ax a", "ax b", "tensor 0 0 1 0", "par 2 0 1")
-EVERY_KIND = (
-    "ax a", "ax ~a", "cut 0 0 1 0", "ax b", "tensor 2 0 3 1", "par 4 0 1", "ax c", "ax c", "with 6 1 7 1", "plus1 8 0 d&e",
-    "plus2 9 1 d|e", "der 10 0", "weak 11 f*g", "weak 12 f*g", "con 13 2 3", "ax !h", "prom 15 0", "ex 14 0 2",
-)
-FAR = 10 ** 18
+from deskcalls import (
+    DROP, EVERY_KIND, EXAMPLE, FAR, OPEN, TEXT, counted_text, line, lines, proof, rule, run, sequent, under)
 
 
 class ProofCall(unittest.TestCase):

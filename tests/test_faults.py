@@ -2,19 +2,13 @@
 
 import unittest
 
-from deskcalls import TEXT, line, lines, reason, run, sequent
+from deskcalls import EXAMPLE, TEXT, line, lines, reason, run, sequent, weakened
 
-EXAMPLE = ("ax a", "ax b", "tensor 0 0 1 0", "par 2 0 1")
 DEEP = "!" * 39 + "a"
 
 
 def axioms(count):
     return ["ax a"] * count
-
-
-def weakened(count):
-    """The lines of a proof whose last sequent has this many formulas."""
-    return ["ax a"] + [f"weak {number} b" for number in range(count - 2)]
 
 
 class Reasons(unittest.TestCase):

@@ -2,14 +2,7 @@
 
 import unittest
 
-from deskcalls import form, last_sequent, line, reason, run
-
-
-def balanced(atoms):
-    """A formula of this many atoms that is as flat as can be."""
-    if atoms == 1:
-        return "a"
-    return "(" + balanced(atoms // 2) + "*" + balanced(atoms - atoms // 2) + ")"
+from deskcalls import balanced, form, last_sequent, line, reason, run
 
 
 class Forms(unittest.TestCase):

@@ -2,9 +2,13 @@
 
 import ast
 import builtins
+import inspect
 import pathlib
 import re
+import sys
 import unittest
+
+from deskcalls import fill, find, keep, line, proof, rename, run, written
 
 PACKAGE = pathlib.Path(__file__).resolve().parent.parent / "countproofs"
 FILES = sorted(path for path in PACKAGE.rglob("*") if path.is_file() and "__pycache__" not in path.parts)
@@ -28,6 +32,9 @@ NO_WORDS = re.compile(r"\b(type|typing|typing_extensions|enum|Enum|IntEnum|StrEn
                       r"contextmanager")
 PYTHONS_ATTRIBUTES = {name for kind in (str, int, list, dict, set, bytes, tuple) for name in dir(kind)}
 FILE_NAMES_OUT = {"test", "tests", "testing", "site", "conftest", "sitecustomize", "usercustomize"}
+KEYWORDS = {"sorted": ("key", "reverse"), "min": ("key", "default"), "max": ("key", "default"), "sum": ("start",),
+            "enumerate": ("start",), "zip": ("strict",)}
+CHANGES = {"append", "clear", "extend", "insert", "pop", "remove", "reverse", "setdefault", "update"}
 WALKED = {"zip", "enumerate", "reversed", "range"}
 WALKERS = {"list", "tuple", "dict", "sorted", "sum", "any", "all", "enumerate", "zip", "min", "max"}
 
@@ -163,6 +170,74 @@ class Language(unittest.TestCase):
         for name, node in nodes(ast.Call):
             if isinstance(node.func, ast.Name) and node.func.id in WALKED:
                 self.assertIn(node, allowed, f"{name}:{node.lineno}")
+
+    def test_what_the_package_does_without(self):
+        # Some of it the rules allow within limits; a package without it keeps these limits.
+        out = (ast.Lambda, ast.JoinedStr, ast.Try, ast.Raise, ast.AnnAssign)
+        self.assertEqual([f"{name}:{node.lineno}" for name, node in nodes(*out)], [])
+        self.each(nodes(ast.Name), lambda node: node.id not in ("set", "frozenset", "isinstance", "chr"), "name")
+        self.each(nodes(ast.FunctionDef), lambda node: not node.args.defaults, "default")
+        self.each(nodes(ast.arg), lambda node: node.annotation is None, "annotation")
+        self.each(nodes(ast.FunctionDef), lambda node: not any(isinstance(inner, ast.FunctionDef) for statement in node.body
+                                                               for inner in ast.walk(statement)), "def within a def")
+
+    def test_keywords(self):
+        for name, node in nodes(ast.Call):
+            for keyword in node.keywords:
+                called = node.func.id if isinstance(node.func, ast.Name) else None
+                self.assertIn(keyword.arg, KEYWORDS.get(called, ()), f"{name}:{node.lineno}")
+
+    def test_tables_at_the_top_are_only_read(self):
+        for path, tree in TREES.items():
+            tables = {item.targets[0].id: item.value for item in tree.body if isinstance(item, ast.Assign)
+                      and isinstance(item.value, (ast.List, ast.Dict))}
+            for value in tables.values():
+                inner = [node for node in ast.walk(value) if isinstance(node, (ast.List, ast.Dict))]
+                self.assertEqual(inner, [value], path.name)
+            reads = [node.value for node in ast.walk(tree) if isinstance(node, ast.Subscript) and isinstance(node.ctx, ast.Load)]
+            reads += [node.value for node in ast.walk(tree) if isinstance(node, ast.Attribute) and node.attr == "get"]
+            reads += [side for node in ast.walk(tree) if isinstance(node, ast.Compare) for side in node.comparators]
+            for node in ast.walk(tree):
+                if isinstance(node, ast.Name) and node.id in tables and isinstance(node.ctx, ast.Load):
+                    self.assertIn(node, reads, f"{path.name}:{node.lineno}")
+                if isinstance(node, ast.ImportFrom):
+                    source = TREES[PACKAGE / f"{node.module.removeprefix('countproofs.')}.py"]
+                    drawn = {alias.name for alias in node.names}
+                    self.assertFalse([item for item in source.body if isinstance(item, ast.Assign)
+                                      and item.targets[0].id in drawn and isinstance(item.value, (ast.List, ast.Dict))])
+
+    def test_classes_are_called_or_are_bases(self):
+        classes = {node.name for _, node in nodes(ast.ClassDef)}
+        allowed = {node.func for _, node in nodes(ast.Call)} | {base for _, node in nodes(ast.ClassDef) for base in node.bases}
+        self.each(nodes(ast.Name), lambda node: node.id not in classes or node in allowed, "class")
+
+    def test_what_a_loop_walks_is_not_changed_in_it(self):
+        for name, loop in nodes(ast.For):
+            walked = {ast.unparse(node) for node in ast.walk(loop.iter) if isinstance(node, (ast.Name, ast.Attribute))}
+            for node in ast.walk(ast.Module(loop.body, [])):
+                if isinstance(node, ast.Call) and isinstance(node.func, ast.Attribute) and node.func.attr in CHANGES:
+                    self.assertNotIn(ast.unparse(node.func.value), walked, f"{name}:{node.lineno}")
+                if isinstance(node, ast.Subscript) and isinstance(node.ctx, ast.Store):
+                    self.assertNotIn(ast.unparse(node.value), walked, f"{name}:{node.lineno}")
+
+    def test_texts(self):
+        for name, node in nodes(ast.Constant):
+            if isinstance(node.value, str):
+                self.assertRegex(node.value, r"\A[\n -~]*\Z", f"{name}:{node.lineno}")
+        for path in FILES:
+            self.assertEqual(re.findall(r"\\[^nt\\'\"]", path.read_text(encoding="ascii")), [], path.name)
+
+    def test_no_recursion_over_what_is_long(self):
+        # A proof of 200 lines that hang on one another and formulas that nest as deep as can be, with few calls to spare.
+        chain = written(["ax " + "!" * 39 + "a"] + [f"ex {number} 0 1" for number in range(199)])
+        depth = len(inspect.stack()) + 200
+        limit = sys.getrecursionlimit()
+        sys.setrecursionlimit(depth)
+        try:
+            run(proof(chain), [7, 199], [8, 199], [10, 199], [11, 199], rename("a", "b"), fill("b", "~b"), [15, 199], [14],
+                keep(0), [14], [3], [4, 117], line("ax " + "(" * 1990), find("~" * 1990), find("(" * 100 + "a" + ")" * 100))
+        finally:
+            sys.setrecursionlimit(limit)
 
 
 if __name__ == "__main__":
